@@ -1,0 +1,1 @@
+"""Goalstead: a language of goals."""

@@ -1,0 +1,19 @@
+"""The bounds that hold throughout."""
+
+SIZE = 60
+DEEP = 12
+FIGURES = 60
+PIECES = 200
+BRACKETS = 12
+LINES = 60
+POINTS = 400
+MOST = 200
+
+WORD_SIGNS = 12
+MARK_SIGNS = 3
+PARTS = 4
+OPERATORS = 12
+LEVELS = 9
+GOALS = 6
+RANGES = 3
+TESTS = 4
