@@ -1,13 +1,13 @@
 """Lines and texts, read to patterns, goals and rows."""
 
-from goalstead.bounds import DEEP, GOALS, PARTS, PIECES, SIZE
+from goalstead.bounds import GOALS, PARTS, PIECES
 from goalstead.errors import BadOperator, BadPiece, BadShape, BadSize
 from goalstead.operators import OperatorTable, let_by, own
 from goalstead.pieces import first_piece, pieces_of
 from goalstead.reading import read_pieces
 from goalstead.shapes import is_goal, is_pattern, is_relation
 from goalstead.signs import is_mark, is_name, is_word
-from goalstead.terms import depth_of, size_of
+from goalstead.terms import is_great
 
 LEVEL_PIECES = ("1", "2", "3", "4", "5", "6", "7", "8", "9")
 SIDES = ("left", "right", "none", "ahead")
@@ -87,7 +87,7 @@ def _table_of(operators):
 
 
 def _measure(reading):
-    if size_of(reading) > SIZE or depth_of(reading) > DEEP:
+    if is_great(reading):
         raise BadSize(0)
 
 

@@ -1,5 +1,6 @@
 """Patterns, terms and fillings, and the order of terms, rows and calls."""
 
+from goalstead.bounds import DEEP, SIZE
 from goalstead.signs import is_unknown
 
 
@@ -23,6 +24,11 @@ def depth_of(pattern):
         depth += 1
         layer = [part for whole in layer if isinstance(whole, tuple) for part in whole[1:]]
     return depth
+
+
+def is_great(pattern):
+    """Whether a pattern is bigger or deeper than patterns may be."""
+    return size_of(pattern) > SIZE or depth_of(pattern) > DEEP
 
 
 def unknowns_of(pattern):
@@ -75,6 +81,15 @@ def matched(pattern, term, filling):
     return found if _takes(pattern, term, found) else None
 
 
+def matched_row(patterns, terms, filling):
+    """The filling by which patterns match as many terms from the left, or None."""
+    found = dict(filling)
+    for pattern, term in zip(patterns, terms):
+        if not _takes(pattern, term, found):
+            return None
+    return found
+
+
 def _takes(pattern, term, found):
     """Whether the pattern matches; what its unknowns take is put into found."""
     if is_unknown(pattern):
@@ -119,3 +134,8 @@ def fact_of(call, row):
         else:
             parts.append(row[place - taken])
     return (name, *parts)
+
+
+def parts_at(pattern, mode, sign):
+    """The parts of a relation pattern at those places of a mode that have this sign."""
+    return [part for part, other in zip(pattern[1:], mode) if other == sign]

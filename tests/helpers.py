@@ -4,6 +4,8 @@ import unittest
 
 from goalstead import errors
 from goalstead.errors import GoalError
+from goalstead.program import Program
+from goalstead.reader import read_text
 
 
 class Case(unittest.TestCase):
@@ -80,3 +82,12 @@ def near_misses(row, pieces):
         for piece in pieces:
             yield row[:at] + [piece] + row[at:]
             yield row[:at] + [piece] + row[at + 1:]
+
+
+def rows_of(text):
+    """The rows of a text; blanks ahead of its lines and lines without signs are left out."""
+    return read_text([line.strip() for line in text.split("\n") if line.strip()])[1]
+
+
+def program_of(text):
+    return Program(rows_of(text))

@@ -18,6 +18,23 @@ FUNCTIONS = {
         "read_line": ["line", "operators", "*most"], "read_text": ["lines", "*most"],
     },
     "writer": {"written": ["pattern", "operators"], "written_line": ["row", "operators"], "plain": ["pattern"]},
+    "sums": {
+        "worth_of": ["tree", "places"], "ends_of": ["tree", "box"], "holds": ["test", "places"], "out": ["test", "box"],
+    },
+    "fields": {
+        "resolved": ["goal", "filling"], "points_of": ["box", "tests"], "tight_of": ["box", "tests"],
+        "cuts_of": ["box", "tests"], "shown": ["box", "tests", "lines"],
+    },
+    "walking": {"walk_clause": ["program", "line", "mode", "ins", "told"]},
+    "lots": {
+        "lot_of": ["house", "call", "*most"], "leads_of": ["house", "call", "*most"],
+        "verdict_of": ["house", "call", "*most"],
+    },
+    "books": {"book_of": ["house", "call", "*most"], "answers_of": ["house", "call", "*most"]},
+    "papers": {
+        "warrant_of": ["program", "call", "*most"], "turn_of": ["program", "call", "*most"],
+        "grounds_of": ["program", "call", "row", "*most"],
+    },
 }
 CLASSES = {
     "errors": [
@@ -25,6 +42,14 @@ CLASSES = {
         "Open", "Round",
         "NoTurn", "NoRow", "NoMode", "NoPaper", "NoAnswer", "NoPlace", "NoRoom", "NoStep", "Taken", "NoName",
     ],
+    "program": ["Program"],
+}
+METHODS = {
+    ("program", "Program"): {
+        "__init__": ["rows"], "titles": [], "modes": ["title"], "is_tabled": ["title"], "clauses": ["title"],
+        "comes_to": ["title"], "layer": ["title"], "clause": ["line"], "plan": ["line", "mode"],
+        "walk": ["call", "told", "*most"],
+    },
 }
 
 
@@ -35,6 +60,13 @@ def argument(parameter):
 
 
 class InterfaceTest(unittest.TestCase):
+    def assert_arguments(self, function, wanted):
+        parameters = [each for each in inspect.signature(function).parameters.values() if each.name != "self"]
+        self.assertEqual([argument(parameter) for parameter in parameters], wanted)
+        for parameter in parameters:
+            default = 200 if parameter.name == "most" else inspect.Parameter.empty
+            self.assertEqual(parameter.default, default)
+
     def test_each_function_stands_in_its_file_with_its_arguments(self):
         for file, functions in FUNCTIONS.items():
             module = importlib.import_module(f"goalstead.{file}")
@@ -42,11 +74,7 @@ class InterfaceTest(unittest.TestCase):
                 with self.subTest(file=file, name=name):
                     function = getattr(module, name)
                     self.assertEqual(function.__module__, module.__name__)
-                    parameters = inspect.signature(function).parameters.values()
-                    self.assertEqual([argument(parameter) for parameter in parameters], wanted)
-                    for parameter in parameters:
-                        default = 200 if parameter.name == "most" else inspect.Parameter.empty
-                        self.assertEqual(parameter.default, default)
+                    self.assert_arguments(function, wanted)
 
     def test_each_class_stands_in_its_file(self):
         for file, classes in CLASSES.items():
@@ -55,6 +83,14 @@ class InterfaceTest(unittest.TestCase):
                 with self.subTest(file=file, name=name):
                     self.assertTrue(inspect.isclass(getattr(module, name)))
                     self.assertEqual(getattr(module, name).__module__, module.__name__)
+
+    def test_each_method_stands_in_its_class_with_its_arguments(self):
+        for (file, name), methods in METHODS.items():
+            kind = getattr(importlib.import_module(f"goalstead.{file}"), name)
+            for method, wanted in methods.items():
+                with self.subTest(name=name, method=method):
+                    self.assertIn(method, vars(kind))
+                    self.assert_arguments(vars(kind)[method], wanted)
 
 
 if __name__ == "__main__":
