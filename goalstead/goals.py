@@ -3,38 +3,32 @@
 from goalstead.shapes import parted_by_and
 from goalstead.terms import title_of
 
-RELATION = "relation"
-NOT = "not"
-LIKENESS = "likeness"
-RECKONING = "reckoning"
-TEST = "test"
-FIELD = "field"
-
 # Each name is a kept one, so no relation has it.
 KINDS = {
-    "not": NOT,
-    "=": LIKENESS,
-    "is": RECKONING,
-    "<": TEST,
-    "=<": TEST,
-    "==": TEST,
-    "=/=": TEST,
-    "in": FIELD,
-    "and": FIELD,
-    "such": FIELD,
+    "not": "not",
+    "=": "likeness",
+    "is": "reckoning",
+    "<": "test",
+    "=<": "test",
+    "==": "test",
+    "=/=": "test",
+    "in": "field",
+    "and": "field",
+    "such": "field",
 }
 
 
 def kind_of(goal):
-    return KINDS.get(goal[0], RELATION) if isinstance(goal, tuple) else RELATION
+    """What kind a goal is of; "relation" is that of relation goals."""
+    return KINDS.get(goal[0], "relation") if isinstance(goal, tuple) else "relation"
 
 
 def relation_in(goal):
     """The relation pattern of a relation goal or a not; None in other goals."""
     kind = kind_of(goal)
-    if kind == NOT:
+    if kind == "not":
         return goal[1]
-    return goal if kind == RELATION else None
+    return goal if kind == "relation" else None
 
 
 def titles_in(goals):

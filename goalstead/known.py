@@ -1,6 +1,6 @@
 """What is known in a clause goal by goal, and the plan by which its goals are walked."""
 
-from goalstead.goals import FIELD, LIKENESS, NOT, RECKONING, RELATION, field_parts, kind_of, relation_in
+from goalstead.goals import field_parts, kind_of, relation_in
 from goalstead.terms import parts_at, title_of, unknowns_of
 
 
@@ -18,7 +18,7 @@ def held(head, goals, mode, modes):
         if word is None:
             return plan, at + 1
         plan.append(word)
-        if kind_of(goal) != NOT:
+        if kind_of(goal) != "not":
             _learn(known, [goal])
     if not _are_known(parts_at(head, mode, "-"), known):
         return plan, len(goals) + 1
@@ -43,15 +43,15 @@ def _are_known(patterns, known):
 def _word_of(goal, known, modes, others):
     """What the plan says of a goal, or None where the goal is ill."""
     kind = kind_of(goal)
-    if kind in (RELATION, NOT):
-        if kind == NOT and _shares_own(goal, known, others):
+    if kind in ("relation", "not"):
+        if kind == "not" and _shares_own(goal, known, others):
             return None
         return _mode_taken(relation_in(goal), known, modes)
-    if kind == LIKENESS:
+    if kind == "likeness":
         return _known_side(goal, known)
     needed = {}
-    _learn(needed, [goal[2]] if kind == RECKONING else [goal])
-    if kind == FIELD:
+    _learn(needed, [goal[2]] if kind == "reckoning" else [goal])
+    if kind == "field":
         ranges, _ = field_parts(goal)
         for part in ranges:
             needed.pop(part[1], None)

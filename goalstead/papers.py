@@ -3,7 +3,7 @@
 from goalstead.bounds import MOST
 from goalstead.books import book_by_lot
 from goalstead.errors import NoRow, NoTurn
-from goalstead.goals import RELATION, kind_of
+from goalstead.goals import kind_of
 from goalstead.lots import found_lot
 from goalstead.told import Told, key_of
 from goalstead.walking import Walk
@@ -42,8 +42,12 @@ def steps_of(program, lot):
     found = Steps(program, lot)
     waiting = {key_of(call): True for call in lot.all_calls()}
     while waiting:
-        grown = [key for key in waiting if found.walk_again(lot.calls[key])]
-        waiting = {follower: True for key in grown for follower in lot.followers[key]}
+        late = {}
+        for key in waiting:
+            if found.walk_again(lot.calls[key]):
+                for follower in lot.followers[key]:
+                    late[follower] = True
+        waiting = late
     return found
 
 
@@ -81,7 +85,7 @@ class Steps(Told):
 
     def numbered(self, goal, mark):
         """A step's mark by that of a way: a number for the call and the row of a relation goal."""
-        if kind_of(goal) != RELATION:
+        if kind_of(goal) != "relation":
             return mark
         call, row = mark
         return self.number_of(call, row)

@@ -2,7 +2,7 @@
 
 from goalstead.bounds import MOST
 from goalstead.errors import Ill, Mixed, Modeless, NoCall, Notring
-from goalstead.goals import NOT, kind_of, titles_in
+from goalstead.goals import kind_of, titles_in
 from goalstead.known import held
 from goalstead.relations import layers_of, reached_from
 from goalstead.terms import title_of
@@ -87,7 +87,7 @@ class Program:
 
     def _look_for_notrings(self):
         for line, (head, goals) in self._clauses.items():
-            nots = [goal for goal in goals if kind_of(goal) == NOT]
+            nots = [goal for goal in goals if kind_of(goal) == "not"]
             for other in titles_in(nots):
                 if title_of(head) in self._reached[other]:
                     raise Notring(line)

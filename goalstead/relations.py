@@ -1,6 +1,6 @@
 """Relations that come to one another by their clauses, and their layers."""
 
-from goalstead.goals import NOT, kind_of, titles_in
+from goalstead.goals import kind_of, titles_in
 from goalstead.terms import title_of
 
 
@@ -41,5 +41,5 @@ def _bounds_of(clauses):
     for head, goals in clauses:
         for goal, title in zip(goals, titles_in(goals)):
             if title is not None:
-                bounds.append((title_of(head), title, 1 if kind_of(goal) == NOT else 0))
+                bounds.append((title_of(head), title, 1 if kind_of(goal) == "not" else 0))
     return bounds

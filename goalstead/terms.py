@@ -77,8 +77,7 @@ def calls_in_order(calls):
 
 def matched(pattern, term, filling):
     """The filling with all that was taken, or None where the pattern does not match."""
-    found = dict(filling)
-    return found if _takes(pattern, term, found) else None
+    return matched_row([pattern], [term], filling)
 
 
 def matched_row(patterns, terms, filling):
@@ -137,5 +136,5 @@ def fact_of(call, row):
 
 
 def parts_at(pattern, mode, sign):
-    """The parts of a relation pattern at those places of a mode that have this sign."""
+    """The parts of a relation pattern at those places of a mode that have this sign; a word has no places."""
     return [part for part, other in zip(pattern[1:], mode) if other == sign]

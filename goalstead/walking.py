@@ -3,7 +3,7 @@
 from goalstead.bounds import GREATEST
 from goalstead.errors import NoCall, Open
 from goalstead.fields import resolved
-from goalstead.goals import FIELD, LIKENESS, NOT, RECKONING, RELATION, TEST, field_parts, kind_of
+from goalstead.goals import field_parts, kind_of
 from goalstead.sums import holds_under, sum_under
 from goalstead.terms import calls_in_order, is_great, matched, matched_row, parts_at, put_in, title_of
 from goalstead.told import Told, key_of
@@ -146,10 +146,10 @@ def _behind_field(walk, goal, word, filling):
 
 
 STEPS = {
-    RELATION: _behind_relation,
-    NOT: _behind_not,
-    LIKENESS: _behind_likeness,
-    RECKONING: _behind_reckoning,
-    TEST: _behind_test,
-    FIELD: _behind_field,
+    "relation": _behind_relation,
+    "not": _behind_not,
+    "likeness": _behind_likeness,
+    "reckoning": _behind_reckoning,
+    "test": _behind_test,
+    "field": _behind_field,
 }

@@ -447,6 +447,15 @@ class House:
 
         return rows(call)
 
+    def plain_search(self, call, lot):
+        """[48] to the letter: each goal's call is searched anew, and answers are told as often as they come."""
+        if not self.is_loose(call):
+            return lot[call]
+        name, mode, ins = call
+        walks = [self.walk_clause(line, mode, ins, lambda other: self.plain_search(other, lot))
+                 for line in self.lines(name)]
+        return [row for answers, _, _ in walks for row in answers]
+
     def floor(self, call, leads):
         if not self.is_loose(call):
             return 0

@@ -201,6 +201,9 @@ class ChanceTest(Case):
                         lot = house.lot(call)
                         self.assertEqual(book_of(program, call), house.book(call))
                         self.assertEqual(answers_of(program, call), house.search(call, lot))
+                        if len(lot) < 12:
+                            found = list(dict.fromkeys(house.plain_search(call, lot)))
+                            self.assertEqual(answers_of(program, call), found)
                     else:
                         kind = Round if verdict == "round" else Open
                         self.assert_refused(kind, {}, book_of, program, call)

@@ -263,6 +263,7 @@ class TightTest(Case):
     def test_empty_and_open_boxes(self):
         for box in EMPTY_BOXES:
             self.tight(None, box)
+            self.tight(None, box, ("<", AT[0], -BIG))
         for box in OPEN_BOXES:
             self.assert_refused(Open, {}, tight_of, box, ())
             self.assert_refused(Open, {}, tight_of, box, (("<", 1, 0),))
@@ -382,6 +383,10 @@ class CutsTest(Case):
             self.shown(None, ((1, 2),), (), wide + [("cut", k, 1, 0, 1)])
         for k, wanted in ((-1, None), (0, None), (1, [(1, 1), (1, 2)]), (2, None), (-2, None)):
             self.shown(wanted, ((1, 1), (1, 2)), (), wide + [("cut", k, 1, 0, 1)])
+        self.shown(None, ((1, 1), (1, 2)), (), [("point",), ("cut", 3, 1, 0, 0), ("cut", -1, 1, 1, 1)])
+        # A cut leaves no pair empty, though lines may be that fit a box with an empty one.
+        self.shown(None, ((1, 1),), (("<", AT[0], 2),), [("point",), ("out", 0), ("cut", 0, 1, 0, 1)])
+        self.shown(None, ((1, 1),), (("<", 0, AT[0]),), [("point",), ("out", 0), ("cut", 0, 0, 1, 0)])
 
     def test_line_numbers_below_nought_and_not_below_the_cuts_own(self):
         for one in (0, 1, 2, 3, -1, -2, BIG, -BIG):
@@ -389,6 +394,7 @@ class CutsTest(Case):
             self.shown(wanted, ((1, 2),), (), [("point",), ("point",), ("cut", 0, 1, one, 0)])
             self.shown(wanted, ((1, 2),), (), [("point",), ("point",), ("cut", 0, 1, 0, one)])
         self.shown(None, ((1, 2),), (), [("cut", 0, 1, 0, 0)])
+        self.shown(None, ((1, 2), (1, 2)), (), [("cut", 0, 1, 1, 1), ("point",), ("cut", 1, 1, 0, 0)])
 
     def test_where_an_out_line_fits(self):
         tests = (("<", AT[0], 9), ("<", AT[0], 3))
