@@ -14,7 +14,12 @@ def book_of(house, call, *, most=MOST):
 
 def answers_of(house, call, *, most=MOST):
     """The answers of a call, in the order in which the plain search comes to them."""
-    for other, rows in book_of(house, call, most=most):
+    return answers_by_lot(house, found_lot(house, call, most), call)
+
+
+def answers_by_lot(house, lot, call):
+    """The answers of the call of which this is the lot."""
+    for other, rows in book_by_lot(house, lot):
         if other == call:
             return rows
     return []

@@ -3,37 +3,36 @@
 from goalstead.bounds import GREATEST, POINTS
 from goalstead.errors import Open
 from goalstead.goals import field_parts
-from goalstead.sums import holds, out, placed_test, sum_under
+from goalstead.sums import holds, out, placed_test, worth_of
 from goalstead.terms import unknowns_of
 
 
 def resolved(goal, filling):
     """The box and the tests of a field under a filling, or None where it has no way."""
     ranges, tests = field_parts(goal)
-    box = _box_of(ranges, filling)
-    if box is None or _many(box) == 0:
-        return None
-    _refuse_many(box)
+    box = box_of([_worths_of(part, filling) for part in ranges])
     trees = _trees_of(ranges, tests, filling)
-    if None in list(trees.values()):
+    if box is None or None in list(trees.values()):
         return None
     return box, tuple([placed_test(test, trees) for test in tests])
 
 
-def _box_of(ranges, filling):
-    """The worths of all ranges' sums, pair by pair, or None where one has none."""
-    box = []
-    for part in ranges:
-        pair = []
-        for reading in part[2][1:]:
-            worth = sum_under(reading, filling)
+def _worths_of(part, filling):
+    """The worths of a range's two sums."""
+    low, high = part[2][1:]
+    return (worth_of(low, filling), worth_of(high, filling))
+
+
+def box_of(pairs):
+    """The box that worths make pair by pair, or None where one of them is none or the box has no points."""
+    for pair in pairs:
+        for worth in pair:
             if worth is None:
                 return None
             if abs(worth) > GREATEST:
                 raise Open()
-            pair.append(worth)
-        box.append(tuple(pair))
-    return tuple(box)
+    _refuse_many(pairs)
+    return tuple(pairs) if _many(pairs) > 0 else None
 
 
 def _trees_of(ranges, tests, filling):
@@ -85,6 +84,17 @@ def points_of(box, tests):
     for low, high in box:
         points = [(*point, number) for point in points for number in range(low, high + 1)]
     return [point for point in points if _all_hold(tests, point)]
+
+
+def has_point(field, point):
+    """Whether a tuple of numbers is one of a field's points at which all its tests hold."""
+    box, tests = field
+    if len(point) != len(box):
+        return False
+    for number, (low, high) in zip(point, box):
+        if not low <= number <= high:
+            return False
+    return _all_hold(tests, point)
 
 
 def tight_of(box, tests):

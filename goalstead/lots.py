@@ -143,11 +143,10 @@ class Lot(Told):
         named = {}
         for key, calls in self.leads.items():
             named[key] = [key_of(call) for call in calls]
+        reached = {key: reached_from(key, named) for key in named}
         found = []
         for call in self.all_calls():
-            if not self.is_tabled(call):
-                for key in named[key_of(call)]:
-                    if key_of(call) in reached_from(key, named):
-                        found.append(call)
-                        break
+            key = key_of(call)
+            if not self.is_tabled(call) and any([key in reached[other] for other in named[key]]):
+                found.append(call)
         return found

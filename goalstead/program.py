@@ -1,5 +1,6 @@
 """Programs: clauses, modes and tables, looked at once and then walked."""
 
+from goalstead.asking import refuse_unknown
 from goalstead.bounds import MOST
 from goalstead.errors import Ill, Mixed, Modeless, NoCall, Notring
 from goalstead.goals import kind_of, titles_in
@@ -131,7 +132,7 @@ class Program:
     def walk_by(self, call, told, *, most):
         """The same by told rows of any kind; lots are found by these walks."""
         title, mode, ins = call
-        self._refuse_unknown(call)
+        refuse_unknown(self, call)
         walk = Walk(told, most=most)
         answers = {}
         for line in self._lines[title]:
@@ -140,9 +141,3 @@ class Program:
             for row, _ in found:
                 answers.setdefault(key_of(row), row)
         return list(answers.values()), walk.calls_met(), walk.ways
-
-    def _refuse_unknown(self, call):
-        """Refuses a call that the program does not have."""
-        title, mode, ins = call
-        if mode not in self._modes.get(title, []) or len(ins) != mode.count("+"):
-            raise NoCall()

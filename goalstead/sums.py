@@ -1,20 +1,26 @@
 """Sums: trees that are reckoned at places, tests of two trees, and the ends of both over a box."""
 
-from goalstead.terms import unknowns_of
-
 
 def worth_of(tree, places):
-    """The number that a tree tells at these places, or None."""
+    """The number that a tree tells at these places, or None.
+
+    A goal's sum is reckoned likewise under a filling: its unknowns are the places then.
+    """
     if isinstance(tree, int):
         return tree
+    if isinstance(tree, str):
+        return _number_in(places[tree])
     if tree[0] == "at":
-        term = places[tree[1]]
-        return term if isinstance(term, int) else None
+        return _number_in(places[tree[1]])
     left = worth_of(tree[1], places)
     right = worth_of(tree[2], places)
     if left is None or right is None:
         return None
     return _reckoned(tree[0], left, right)
+
+
+def _number_in(term):
+    return term if isinstance(term, int) else None
 
 
 def _reckoned(sign, left, right):
@@ -95,25 +101,15 @@ def tree_of(reading, trees):
     return (reading[0], tree_of(reading[1], trees), tree_of(reading[2], trees))
 
 
+def tree_at(tree, seats):
+    """A tree in which what is told for each place stands for it."""
+    if isinstance(tree, int):
+        return tree
+    if tree[0] == "at":
+        return seats[tree[1]]
+    return (tree[0], tree_at(tree[1], seats), tree_at(tree[2], seats))
+
+
 def placed_test(reading, trees):
     """The test that a goal's test is, its sums' trees made likewise."""
     return (reading[0], tree_of(reading[1], trees), tree_of(reading[2], trees))
-
-
-def sum_under(reading, filling):
-    """The worth of a goal's sum under a filling, or None."""
-    trees, places = _placed(reading, filling)
-    return worth_of(tree_of(reading, trees), places)
-
-
-def holds_under(reading, filling):
-    """Whether a goal's test holds under a filling."""
-    trees, places = _placed(reading, filling)
-    return holds(placed_test(reading, trees), places)
-
-
-def _placed(reading, filling):
-    """A place for each unknown of a sum or a test, and the terms at these places."""
-    unknowns = unknowns_of(reading)
-    trees = {unknown: ("at", place) for place, unknown in enumerate(unknowns)}
-    return trees, tuple([filling[unknown] for unknown in unknowns])

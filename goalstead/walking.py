@@ -1,12 +1,13 @@
 """The walk of clauses, goal by goal, by the rows that are told of calls."""
 
+from goalstead.asking import Asking
 from goalstead.bounds import GREATEST
 from goalstead.errors import NoCall, Open
 from goalstead.fields import resolved
 from goalstead.goals import field_parts, kind_of
-from goalstead.sums import holds_under, sum_under
-from goalstead.terms import calls_in_order, is_great, matched, matched_row, parts_at, put_in, title_of
-from goalstead.told import Told, key_of
+from goalstead.sums import holds, worth_of
+from goalstead.terms import is_great, matched, matched_row, parts_at, put_in, title_of
+from goalstead.told import Told
 
 
 def walk_clause(program, line, mode, ins, told):
@@ -20,19 +21,13 @@ def walk_clause(program, line, mode, ins, told):
     return [row for row, _ in found], counts, walk.calls_met()
 
 
-class Walk:
+class Walk(Asking):
     """A walk of one clause or of several by one told list.
 
     A way is a pair (filling, marks): the marks tell for each goal behind which
     the way is what it went through, as the marks of a step do, but for a
     relation goal the pair of its call and row.
     """
-
-    def __init__(self, told, *, most=None):
-        self.told = told
-        self.most = most
-        self.met = {}
-        self.ways = 0
 
     def clause(self, head, goals, mode, plan, ins):
         """The rows that a clause answers, with their marks, and the counts of ways."""
@@ -45,7 +40,7 @@ class Walk:
         outs = parts_at(head, mode, "-")
         found = []
         for last, marks in ways:
-            found.append((tuple([_put_together(part, last) for part in outs]), marks))
+            found.append((tuple([put_together(part, last) for part in outs]), marks))
         return found, counts
 
     def ways_behind(self, goal, word, ways):
@@ -55,28 +50,19 @@ class Walk:
         for filling, marks in ways:
             for other, mark in step(self, goal, word, filling):
                 behind.append((other, (*marks, mark)))
-            # A bound that is passed is told at once, so that no more ways have to be found.
             self.refuse_many(len(behind))
         self.ways += len(behind)
         return behind
 
-    def refuse_many(self, more):
-        if self.most is not None and self.ways + more > self.most:
-            raise Open()
 
-    def meet(self, relation, mode, filling):
-        """The call of a relation goal or a not, and its key."""
-        ins = tuple([_put_together(part, filling) for part in parts_at(relation, mode, "+")])
-        call = (title_of(relation), mode, ins)
-        key = key_of(call)
-        self.met[key] = call
-        return call, key
-
-    def calls_met(self):
-        return calls_in_order(list(self.met.values()))
+def call_of(relation, mode, filling):
+    """The call of a relation goal or a not."""
+    ins = tuple([put_together(part, filling) for part in parts_at(relation, mode, "+")])
+    return (title_of(relation), mode, ins)
 
 
-def _put_together(pattern, filling):
+def put_together(pattern, filling):
+    """A term that is put together and measured."""
     term = put_in(pattern, filling)
     if is_great(term):
         raise Open()
@@ -84,10 +70,10 @@ def _put_together(pattern, filling):
 
 
 def _behind_relation(walk, goal, mode, filling):
-    call, key = walk.meet(goal, mode, filling)
+    call = call_of(goal, mode, filling)
     outs = parts_at(goal, mode, "-")
     found = []
-    for row in walk.told.rows_of(key):
+    for row in walk.told.rows_of(walk.meet(call)):
         other = matched_row(outs, row, filling)
         if other is not None:
             found.append((other, (call, row)))
@@ -95,8 +81,7 @@ def _behind_relation(walk, goal, mode, filling):
 
 
 def _behind_not(walk, goal, mode, filling):
-    _, key = walk.meet(goal[1], mode, filling)
-    rows = walk.told.final_rows_of(key)
+    rows = walk.told.final_rows_of(walk.meet(call_of(goal[1], mode, filling)))
     if rows is None:
         return []
     outs = parts_at(goal[1], mode, "-")
@@ -108,11 +93,11 @@ def _behind_not(walk, goal, mode, filling):
 
 def _behind_likeness(walk, goal, side, filling):
     known, other = goal[1:] if side == "left" else goal[:0:-1]
-    return _if_matched(other, _put_together(known, filling), filling)
+    return _if_matched(other, put_together(known, filling), filling)
 
 
 def _behind_reckoning(walk, goal, word, filling):
-    worth = sum_under(goal[2], filling)
+    worth = worth_of(goal[2], filling)
     if worth is None:
         return []
     if abs(worth) > GREATEST:
@@ -127,7 +112,7 @@ def _if_matched(pattern, term, filling):
 
 
 def _behind_test(walk, goal, word, filling):
-    return [(filling, None)] if holds_under(goal, filling) else []
+    return [(filling, None)] if holds(goal, filling) else []
 
 
 def _behind_field(walk, goal, word, filling):

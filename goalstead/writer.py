@@ -1,6 +1,7 @@
 """Patterns, goals and rows, written to texts."""
 
 from goalstead.operators import OperatorTable, own
+from goalstead.terms import fact_of
 
 
 def written(pattern, operators):
@@ -24,6 +25,14 @@ def written_line(row, operators):
     if row[0] == "clause":
         return _clause_of(row[1], row[2], operators)
     return ""
+
+
+def said_step(step, operators):
+    """A step as a text: its fact, the line that it is by, and the steps that its marks name."""
+    call, row, line, marks = step
+    text = f"{written(fact_of(call, row), operators)} by {line}"
+    numbers = ", ".join([str(mark) for mark in marks if isinstance(mark, int)])
+    return f"{text} from {numbers}" if numbers else text
 
 
 def _places_of(mode):

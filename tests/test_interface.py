@@ -4,7 +4,7 @@ import importlib
 import inspect
 import unittest
 
-# Most is handed in by its name and is 200 where it is not told.
+# What stands behind a star is handed in by its name.
 FUNCTIONS = {
     "terms": {
         "size_of": ["pattern"], "depth_of": ["pattern"], "unknowns_of": ["pattern"], "in_order": ["terms"],
@@ -35,6 +35,14 @@ FUNCTIONS = {
         "warrant_of": ["program", "call", "*most"], "turn_of": ["program", "call", "*most"],
         "grounds_of": ["program", "call", "row", "*most"],
     },
+    "lookers": {
+        "step_holds": ["program", "told", "steps", "number"], "warrant_holds": ["program", "call", "paper"],
+        "turn_holds": ["program", "call", "paper"],
+    },
+    "codes": {"run": ["codes", "ins", "told"], "fits": ["codes", "many"]},
+    "laying": {"laid": ["program", "line", "mode"]},
+    "tidying": {"tidied": ["codes", "many"], "is_tidy": ["codes", "many"]},
+    "picking": {"picked": ["program", "call"]},
 }
 CLASSES = {
     "errors": [
@@ -43,6 +51,8 @@ CLASSES = {
         "NoTurn", "NoRow", "NoMode", "NoPaper", "NoAnswer", "NoPlace", "NoRoom", "NoStep", "Taken", "NoName",
     ],
     "program": ["Program"],
+    "image": ["Image"],
+    "desk": ["Desk"],
 }
 METHODS = {
     ("program", "Program"): {
@@ -50,7 +60,19 @@ METHODS = {
         "comes_to": ["title"], "layer": ["title"], "clause": ["line"], "plan": ["line", "mode"],
         "walk": ["call", "told", "*most"],
     },
+    ("image", "Image"): {
+        "__init__": ["program"], "walk": ["call", "told", "*most"], "modes": ["title"], "is_tabled": ["title"],
+        "layer": ["title"], "codes_of": ["title", "mode"], "renew": ["program"],
+    },
+    ("desk", "Desk"): {
+        "__init__": ["lines", "*most"], "put": ["at", "line"], "cut": ["at"], "change": ["at", "line"], "undo": [],
+        "again": [], "keep": ["name", "question"], "drop": ["name"], "lines": [], "neat": [], "deeds": [], "log": [],
+        "kept": [], "births": [], "state": ["name"], "birth": ["name"], "ask": ["question", "*by_codes"],
+        "paper": ["question"], "why": ["question", "number"], "said": ["question", "number"],
+        "codes_of": ["title", "mode"],
+    },
 }
+DEFAULTS = {"most": 200, "by_codes": False}
 
 
 def argument(parameter):
@@ -64,8 +86,7 @@ class InterfaceTest(unittest.TestCase):
         parameters = [each for each in inspect.signature(function).parameters.values() if each.name != "self"]
         self.assertEqual([argument(parameter) for parameter in parameters], wanted)
         for parameter in parameters:
-            default = 200 if parameter.name == "most" else inspect.Parameter.empty
-            self.assertEqual(parameter.default, default)
+            self.assertEqual(parameter.default, DEFAULTS.get(parameter.name, inspect.Parameter.empty))
 
     def test_each_function_stands_in_its_file_with_its_arguments(self):
         for file, functions in FUNCTIONS.items():
@@ -91,6 +112,10 @@ class InterfaceTest(unittest.TestCase):
                 with self.subTest(name=name, method=method):
                     self.assertIn(method, vars(kind))
                     self.assert_arguments(vars(kind)[method], wanted)
+
+    def test_busy_is_set_when_a_desk_is_made(self):
+        kind = getattr(importlib.import_module("goalstead.desk"), "Desk")
+        self.assertIs(vars(kind([]))["busy"], False)
 
 
 if __name__ == "__main__":
