@@ -13,8 +13,8 @@ def laid(program, line, mode):
     laying = Laying(mode.count("+"))
     laying.match_row(parts_at(head, mode, "+"), 0)
     for goal, word in zip(goals, plan):
-        lay = LAYERS[kind_of(goal)]
-        lay(laying, goal, word)
+        step = STEPS[kind_of(goal)]
+        step(laying, goal, word)
         laying.codes.append(("mark",))
     laying.codes.append(("tell", laying.put_row(parts_at(head, mode, "-"))))
     return laying.codes
@@ -79,7 +79,7 @@ class Laying:
         return {unknown: ("at", place) for unknown, place in self.places.items()}
 
 
-def _lay_relation(laying, goal, mode):
+def _relation_laid(laying, goal, mode):
     outs = parts_at(goal, mode, "-")
     places = laying.put_row(parts_at(goal, mode, "+"))
     first = laying.take_places(len(outs))
@@ -87,7 +87,7 @@ def _lay_relation(laying, goal, mode):
     laying.match_row(outs, first)
 
 
-def _lay_not(laying, goal, mode):
+def _not_laid(laying, goal, mode):
     outs = parts_at(goal[1], mode, "-")
     places = laying.put_row(parts_at(goal[1], mode, "+"))
     first = laying.take_places(len(outs))
@@ -100,7 +100,7 @@ def _lay_not(laying, goal, mode):
     laying.codes.insert(start, ("bar", title_of(goal[1]), mode, places, first, len(within)))
 
 
-def _lay_likeness(laying, goal, side):
+def _likeness_laid(laying, goal, side):
     _, left, right = goal
     if side == "left":
         laying.match(right, laying.put(left))
@@ -108,17 +108,17 @@ def _lay_likeness(laying, goal, side):
         laying.match(left, laying.put(right))
 
 
-def _lay_reckoning(laying, goal, word):
+def _reckoning_laid(laying, goal, word):
     place = laying.take_places(1)
     laying.codes.append(("sum", place, tree_of(goal[2], laying.trees())))
     laying.match(goal[1], place)
 
 
-def _lay_test(laying, goal, word):
+def _test_laid(laying, goal, word):
     laying.codes.append(("test", *placed_test(goal, laying.trees())))
 
 
-def _lay_field(laying, goal, word):
+def _field_laid(laying, goal, word):
     ranges, tests = field_parts(goal)
     trees = laying.trees()
     pairs = [(tree_of(part[2][1], trees), tree_of(part[2][2], trees)) for part in ranges]
@@ -131,11 +131,11 @@ def _lay_field(laying, goal, word):
     laying.match_row(unknowns, first)
 
 
-LAYERS = {
-    "relation": _lay_relation,
-    "not": _lay_not,
-    "likeness": _lay_likeness,
-    "reckoning": _lay_reckoning,
-    "test": _lay_test,
-    "field": _lay_field,
+STEPS = {
+    "relation": _relation_laid,
+    "not": _not_laid,
+    "likeness": _likeness_laid,
+    "reckoning": _reckoning_laid,
+    "test": _test_laid,
+    "field": _field_laid,
 }

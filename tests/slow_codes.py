@@ -336,7 +336,7 @@ class CodeMaker:
 
     def lay_field(self):
         many = self.random.choice([1, 1, 2])
-        ranges = tuple((self.random.randint(-1, 1), self.tree(1)) for _ in range(many))
+        ranges = tuple((self.random.choice([-1, 0, 1, self.tree(1)]), self.tree(1)) for _ in range(many))
         first = self.fresh(many)
         known = list(self.known)
         self.known += range(first, first + many)

@@ -71,7 +71,8 @@ class EachTest(RunCase):
         self.answers([(2, 1, ("f", 1, 2))], codes, (("f", 1, 2),))
         for term in (("g", 1, 2), ("f", 1), ("f", 1, 2, 3), "f", 1):
             self.answers([], codes, (term,))
-        self.answers([("a", ("s", 1), 2, 3)], [("open", 0, "+", 1, 4), ("tell", (1, 2, 3, 4))], (("+", "a", ("s", 1), 2, 3),))
+        self.answers([("a", ("s", 1), 2, 3)], [("open", 0, "+", 1, 4), ("tell", (1, 2, 3, 4))],
+                     (("+", "a", ("s", 1), 2, 3),))
         self.answers([(1,)], [EVERY, ("open", 9, "s", 3, 1), ("tell", (3,))], (), [HS])
 
     def test_same(self):
@@ -192,7 +193,8 @@ class BehindTest(RunCase):
         codes = [("mark",), EVERY, ("mark",), ("mark",), ("test", "<", ("at", 9), 2), ("mark",), ("this", 9, 5),
                  ("mark",), ("put", 3, 1), ("mark",), NONE]
         self.run_of(([], [1, 4, 4, 1, 0, 0], [h()]), codes, (), [HS])
-        self.run_of(([()], [1, 2], [h()]), [("mark",), EVERY, ("test", "=/=", ("at", 9), 2), ("mark",), ("this", 9, 1), NONE],
+        self.run_of(([()], [1, 2], [h()]),
+                    [("mark",), EVERY, ("test", "=/=", ("at", 9), 2), ("mark",), ("this", 9, 1), NONE],
                     (), [(h(), [(1,), (2,), (3,)])])
 
     def test_calls_met_each_once_in_the_order_of_calls(self):
@@ -357,9 +359,12 @@ class FitTest(Case):
                 self.fit([2], [code, ("put", 2, 5), *rest], least - 1)
 
     def test_what_each_code_writes_may_be_read_behind_it(self):
-        for code, wrote, beyond in ((("put", 4, 1), [4], 5), (("make", 4, "f", (0, 0)), [4], 5), (("sum", 4, 1), [4], 5),
-                                    (("open", 0, "f", 4, 3), [4, 5, 6], 7), (("call", "e/3", "-+-", (0,), 4), [4, 5], 6),
-                                    (("call", "e/1", "+", (0,), 4), [], 4), (("field", ((1, 2), (1, 2)), (), 4), [4, 5], 6),
+        for code, wrote, beyond in ((("put", 4, 1), [4], 5), (("make", 4, "f", (0, 0)), [4], 5),
+                                    (("sum", 4, 1), [4], 5),
+                                    (("open", 0, "f", 4, 3), [4, 5, 6], 7),
+                                    (("call", "e/3", "-+-", (0,), 4), [4, 5], 6),
+                                    (("call", "e/1", "+", (0,), 4), [], 4),
+                                    (("field", ((1, 2), (1, 2)), (), 4), [4, 5], 6),
                                     (("this", 0, 4), [], 4), (("same", 0, 0), [], 4), (("mark",), [], 4),
                                     (("test", "<", 1, 2), [], 4)):
             for place in (*wrote, beyond):
@@ -367,7 +372,8 @@ class FitTest(Case):
             self.fit([2], [code, ("tell", (3,))], 1)
 
     def test_a_code_does_not_read_what_it_writes(self):
-        for code in (("make", 1, "f", (1,)), ("sum", 1, ("at", 1)), ("open", 1, "f", 1, 1), ("call", "e/2", "+-", (1,), 1),
+        for code in (("make", 1, "f", (1,)), ("sum", 1, ("at", 1)), ("open", 1, "f", 1, 1),
+                     ("call", "e/2", "+-", (1,), 1),
                      ("bar", "e/2", "+-", (1,), 1, 0), ("field", ((1, ("at", 1)),), (), 1)):
             self.fit([2], [code, NONE], 1)
         # But for a field's own places in its tests.

@@ -5,8 +5,8 @@ import unittest
 from goalstead.books import book_of
 from goalstead.desk import Desk
 from goalstead.errors import (
-    BadOperator, BadPiece, BadShape, BadSize, GoalError, Ill, Mixed, Modeless, NoAnswer, NoCall, NoMode, NoName, NoPaper,
-    NoPlace, NoRoom, Notring, NoStep, Taken,
+    BadOperator, BadPiece, BadShape, BadSize, GoalError, Ill, Mixed, Modeless, NoAnswer, NoCall, NoMode, NoName,
+    NoPaper, NoPlace, NoRoom, Notring, NoStep, Taken,
 )
 from goalstead.image import Image
 from goalstead.lookers import step_holds, turn_holds, warrant_holds
@@ -26,7 +26,8 @@ OPEN = ["mode n(in, out)", "n(X, X)", "n(X, Y) <- Z is X + 1, n(Z, Y)"]
 
 def looked(desk):
     """All that a desk tells of itself."""
-    return (desk.lines(), desk.neat(), desk.deeds(), desk.kept(), desk.births(), [desk.state(name) for name in desk.kept()],
+    return (desk.lines(), desk.neat(), desk.deeds(), desk.kept(), desk.births(),
+            [desk.state(name) for name in desk.kept()],
             desk.busy)
 
 
@@ -112,7 +113,8 @@ class QuestionTest(DeskCase):
         self.question_refused(BadSize, {"line": 0}, PATHS, "e(a, " + "f(" * 11 + "X" + ")" * 11 + ")")
         wide = "f(g(1, 2, 3, 4), g(1, 2, 3, 4), g(1, 2, 3, 4))"
         self.question_refused(BadSize, {"line": 0}, PATHS, f"e({wide}, {wide}, {wide}, {wide})")
-        for question in ("", "e(a, X", "e(a X)", "e(a, X) <- e(a, X)", "e(a, X), e(a, X)", "not e(a, X)", "1 < 2", "X in 1 .. 2",
+        for question in ("", "e(a, X", "e(a X)", "e(a, X) <- e(a, X)", "e(a, X), e(a, X)", "not e(a, X)", "1 < 2",
+                         "X in 1 .. 2",
                          "e(a, in)", "is", "e()", "Y = e"):
             self.question_refused(BadShape, {"line": 0}, PATHS, question)
 
@@ -145,7 +147,8 @@ class QuestionTest(DeskCase):
         self.state(("book", [()]), lines, "h(3, 1)")
 
     def test_operators_of_the_text(self):
-        lines = ["op 5 none to", "mode to(in, out)", "a to b", "a to c", "op 2 ahead the", "mode the(in)", "the X <- X to Y"]
+        lines = ["op 5 none to", "mode to(in, out)", "a to b", "a to c", "op 2 ahead the", "mode the(in)",
+                 "the X <- X to Y"]
         self.state(("book", [("b",), ("c",)]), lines, "a to X")
         self.state(("book", [()]), lines, "the a")
         self.state(("book", []), lines, "the b")
@@ -163,7 +166,8 @@ class StateTest(DeskCase):
         self.state(("open",), OPEN, "n(1, X)")
 
     def test_most(self):
-        for most, wanted in ((16, ("book", [("b",), ("c",)])), (15, ("open",)), (200, ("book", [("b",), ("c",)])), (1, ("open",))):
+        for most, wanted in ((16, ("book", [("b",), ("c",)])), (15, ("open",)), (200, ("book", [("b",), ("c",)])),
+                             (1, ("open",))):
             self.state(wanted, PATHS, "p(a, X)", most=most)
         lines = ["mode a(in)"] + ["a(X) <- Y in 1 .. X, Y < 0"]
         self.state(("book", []), lines, "a(199)")
@@ -208,7 +212,8 @@ class StateTest(DeskCase):
 
 class PaperTest(DeskCase):
     def test_warrants_and_turns(self):
-        for lines, question, call in ((PATHS, "p(a, X)", ("p/2", "+-", ("a",))), (PATHS, "p(a, b)", ("p/2", "+-", ("a",))),
+        for lines, question, call in ((PATHS, "p(a, X)", ("p/2", "+-", ("a",))),
+                                      (PATHS, "p(a, b)", ("p/2", "+-", ("a",))),
                                       (RING + ["table p 2"], "p(b, X)", ("p/2", "+-", ("b",)))):
             desk, program = Desk(lines), Program(read_text(lines)[1])
             paper = desk.paper(question)
@@ -274,7 +279,8 @@ class GroundsTest(DeskCase):
 
     def test_no_answer(self):
         for lines, question, numbers in ((PATHS, "p(a, X)", (-1, -2, 2, 3, BIG, -BIG)), (PATHS, "p(c, X)", (0, 1, -1)),
-                                         (PATHS, "p(a, b)", (1, -1)), (RING, "p(a, X)", (0, 1, -1)), (OPEN, "n(1, X)", (0, -1))):
+                                         (PATHS, "p(a, b)", (1, -1)), (RING, "p(a, X)", (0, 1, -1)),
+                                         (OPEN, "n(1, X)", (0, -1))):
             desk = Desk(lines)
             for number in numbers:
                 with self.subTest(lines=lines, question=question, number=number):
@@ -478,11 +484,15 @@ class DeedTest(DeskCase):
         desk.undo()
         before = looked(desk)
         codes = desk.codes_of("e/2", "+-")
-        for kind, function, places in ((BadPiece, desk.put, (0, "07")), (BadShape, desk.put, (0, "b b")), (NoPlace, desk.put, (9, "")),
-                                       (Modeless, desk.put, (0, "b")), (NoPlace, desk.cut, (7,)), (Modeless, desk.cut, (0,)),
-                                       (BadPiece, desk.change, (6, "~")), (Modeless, desk.change, (0, "")), (NoPlace, desk.change, (-1, "")),
+        for kind, function, places in ((BadPiece, desk.put, (0, "07")), (BadShape, desk.put, (0, "b b")),
+                                       (NoPlace, desk.put, (9, "")),
+                                       (Modeless, desk.put, (0, "b")), (NoPlace, desk.cut, (7,)),
+                                       (Modeless, desk.cut, (0,)),
+                                       (BadPiece, desk.change, (6, "~")), (Modeless, desk.change, (0, "")),
+                                       (NoPlace, desk.change, (-1, "")),
                                        (Taken, desk.keep, ("one", "07")), (BadPiece, desk.keep, ("new", "07")),
-                                       (NoMode, desk.keep, ("new", "zz")), (NoName, desk.drop, ("new",)), (NoName, desk.state, ("new",)),
+                                       (NoMode, desk.keep, ("new", "zz")), (NoName, desk.drop, ("new",)),
+                                       (NoName, desk.state, ("new",)),
                                        (NoMode, desk.ask, ("zz",)), (NoAnswer, desk.why, ("p(a, X)", 7))):
             self.assert_refused(kind, {}, function, *places)
             self.assertEqual(looked(desk), before)
@@ -507,7 +517,8 @@ class DeedTest(DeskCase):
         self.assertEqual(desk.put(8, "mode e(out, out)"), ([], [(0, "e/2", "--"), (3, "e/2", "--"), (4, "e/2", "--"),
                                                                     (6, "p/2", "+-"), (7, "p/2", "+-")]))
         self.assertEqual(desk.undo(), ([], [(6, "p/2", "+-"), (7, "p/2", "+-")]))
-        self.assertEqual(desk.again()[1], [(0, "e/2", "--"), (3, "e/2", "--"), (4, "e/2", "--"), (6, "p/2", "+-"), (7, "p/2", "+-")])
+        self.assertEqual(desk.again()[1],
+                         [(0, "e/2", "--"), (3, "e/2", "--"), (4, "e/2", "--"), (6, "p/2", "+-"), (7, "p/2", "+-")])
         told = desk.cut(0)
         self.assertEqual((type(told), [type(part) for part in told]), (tuple, [list, list]))
         self.assertEqual(told, ([], []))
@@ -520,10 +531,13 @@ class LogTest(DeskCase):
     def test_done_and_refused(self):
         desk, wanted = Desk(PATHS), []
         self.assertEqual((desk.log(), desk.busy), ([], False))
-        for word, places, kind in (("put", (0, ""), None), ("put", (99, ""), NoPlace), ("cut", (0,), None), ("cut", (-1,), NoPlace),
-                                   ("change", (1, "e(a, x)"), None), ("change", (1, "07"), BadPiece), ("undo", (), None),
+        for word, places, kind in (("put", (0, ""), None), ("put", (99, ""), NoPlace), ("cut", (0,), None),
+                                   ("cut", (-1,), NoPlace),
+                                   ("change", (1, "e(a, x)"), None), ("change", (1, "07"), BadPiece),
+                                   ("undo", (), None),
                                    ("again", (), None), ("again", (), NoStep), ("keep", ("k", "p(a, X)"), None),
-                                   ("keep", ("k", "07"), Taken), ("keep", ("l", "07"), BadPiece), ("drop", ("l",), NoName),
+                                   ("keep", ("k", "07"), Taken), ("keep", ("l", "07"), BadPiece),
+                                   ("drop", ("l",), NoName),
                                    ("drop", ("k",), None), ("put", (0, "mode zz"), None), ("cut", (1,), Modeless)):
             self.assertIs(desk.busy, False)
             if kind is None:
@@ -574,7 +588,8 @@ class LogTest(DeskCase):
 
 class NeatTest(DeskCase):
     def test_the_neat_text(self):
-        lines = ["  op 5 none to", "", "mode   to( in ,out )", "table to   2", "a to ((b))", "to1(X)<-X=(1+2)*3,not(X to Y)", "mode to1(in)",
+        lines = ["  op 5 none to", "", "mode   to( in ,out )", "table to   2", "a to ((b))",
+                 "to1(X)<-X=(1+2)*3,not(X to Y)", "mode to1(in)",
                  "mode  k", "k <- (1) < (2)", "f(X) <- X in(1)..(2)such(X<2)", "mode f(out)"]
         desk = Desk(lines)
         self.assertEqual(desk.neat(), ["op 5 none to", "", "mode to(in, out)", "table to 2", "a to b",

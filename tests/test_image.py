@@ -37,7 +37,8 @@ class ImageCase(Case):
                 wanted = outcome(program.walk, call, list(told), most=most)
                 self.assertEqual(outcome(image.walk, call, list(told), most=most), wanted)
                 for function in (lot_of, leads_of, verdict_of, book_of, answers_of):
-                    self.assertEqual(outcome(function, image, call, most=most), outcome(function, program, call, most=most))
+                    self.assertEqual(outcome(function, image, call, most=most),
+                                     outcome(function, program, call, most=most))
         self.assertEqual(outcome(image.walk, call, list(told)), outcome(program.walk, call, list(told)))
         return outcome(verdict_of, program, call)
 
@@ -69,7 +70,8 @@ class WalkTest(ImageCase):
     def test_walks(self):
         program = program_of(TEXT)
         image = Image(program)
-        told = [(e("a"), [("c",), (7,), ("b",), (1,)]), (e("b"), [("d",), ("c",)]), (e("c"), [("e",)]), (("f/1", "+", ("d",)), [()])]
+        told = [(e("a"), [("c",), (7,), ("b",), (1,)]), (e("b"), [("d",), ("c",)]), (e("c"), [("e",)]),
+                (("f/1", "+", ("d",)), [()])]
         for call in (p("a"), p("own"), e("own"), e("zz"), ("f/1", "+", (1,)), ("k/0", "", ())):
             self.alike(image, program, call, told)
         handed = [(call, list(rows)) for call, rows in told]
@@ -102,7 +104,8 @@ class WalkTest(ImageCase):
             for function in (lot_of, leads_of, verdict_of, book_of, answers_of):
                 self.assert_refused(NoCall, {}, function, image, call)
             self.assert_refused(NoCall, {}, image.walk, call, [], most=1)
-        text = f"mode a(in, out) \n a(1, 2) \n a(X, s(X)) <- 1 < 2 \n a(2, X) <- X is {BIG} + 1 \n a(3, 1) <- X in 1 .. 401"
+        text = f"mode a(in, out) \n a(1, 2) \n a(X, s(X)) <- 1 < 2 \n a(2, X) <- X is {BIG} + 1"
+        text += "\n a(3, 1) <- X in 1 .. 401"
         program = program_of(text)
         image = Image(program)
         for ins in (1, 2, 3, 4, flat(59), flat(60)):
@@ -184,7 +187,8 @@ class CodesTest(ImageCase):
         self.assertEqual([line for line, _ in image.codes_of("e/2", "--")], [1, 2])
         self.assertEqual([line for line, _ in image.codes_of("p/2", "++")], [4, 5])
         self.assertEqual(image.codes_of("lone/0", ""), [])
-        for title, mode in (("q/1", "+"), ("q/1", ""), ("lone/0", "-"), ("e/2", "++"), ("e/2", ""), ("e", "+-"), ("zz/2", "+-")):
+        for title, mode in (("q/1", "+"), ("q/1", ""), ("lone/0", "-"), ("e/2", "++"), ("e/2", ""), ("e", "+-"),
+                            ("zz/2", "+-")):
             self.assert_refused(NoCall, {}, image.codes_of, title, mode)
 
     def test_they_run_as_the_clauses_walk(self):
@@ -278,7 +282,8 @@ class RenewTest(ImageCase):
         self.renewed([(4, "e/2", "++"), (5, "p/2", "+-"), (6, "p/2", "+-")], added)
         self.renewed([(5, "p/2", "+-"), (6, "p/2", "+-")], BASE, before=added)
         self.renewed([(4, "p/2", "+-"), (5, "p/2", "+-")], BASE.replace("    mode e(out, out)\n", ""))
-        turned = BASE.replace("mode e(in, out)", "mode x").replace("mode e(out, out)", "mode e(out, out) \n mode e(in, out)")
+        turned = BASE.replace("mode e(in, out)", "mode x").replace("mode e(out, out)",
+                                                                   "mode e(out, out) \n mode e(in, out)")
         self.renewed([(6, "p/2", "+-"), (7, "p/2", "+-")], turned)
         self.renewed([(7, "p/2", "+-"), (8, "f/1", "-")], BASE.replace("mode f(in)", "mode f(out)"))
         self.renewed([(7, "p/2", "+-"), (8, "f/1", "-")], BASE + "mode f(out)")
@@ -301,7 +306,8 @@ class RenewTest(ImageCase):
             self.assert_refused(NoCall, {}, image.walk, call, [])
         self.assertEqual(image.walk(one("f", "a"), []), ([], [], 0))
         # And so it is laid anew where it comes again.
-        wanted = [(4, "e/2", "+-"), (4, "e/2", "--"), (5, "p/2", "+-"), (6, "p/2", "+-"), (7, "p/2", "+-"), (8, "f/1", "+")]
+        wanted = [(4, "e/2", "+-"), (4, "e/2", "--"), (5, "p/2", "+-"), (6, "p/2", "+-"), (7, "p/2", "+-"),
+                  (8, "f/1", "+")]
         self.assertEqual(image.renew(program_of(BASE)), wanted)
         self.assertEqual(image.renew(program_of("")), [])
         self.assert_refused(NoCall, {}, image.codes_of, "f/1", "+")

@@ -62,7 +62,8 @@ class KeepTest(Case):
                 self.assert_refused(Taken, {}, desk.keep, "k", question)
         self.assertEqual((desk.kept(), desk.state("k")), (["k"], ("book", [("b",), ("c",)])))
         desk.drop("k")
-        for question, kind in (("07", BadPiece), ("zz zz", BadShape), ("X", BadShape), ("zz", NoMode), ("p(X, a)", NoMode),
+        for question, kind in (("07", BadPiece), ("zz zz", BadShape), ("X", BadShape), ("zz", NoMode),
+                               ("p(X, a)", NoMode),
                                ("e(" * 13 + "a" + ")" * 13, BadSize)):
             for _ in range(2):
                 self.assert_refused(kind, {}, desk.keep, "k", question)
@@ -82,7 +83,8 @@ class KeepTest(Case):
         self.assertEqual(desk.kept(), ["k"])
 
     def test_each_verdict(self):
-        for lines, question, wanted in ((RING, "p(a, X)", ("round",)), (OPEN, "n(1, X)", ("open",)), (PATHS, "p(c, X)", ("book", []))):
+        for lines, question, wanted in ((RING, "p(a, X)", ("round",)), (OPEN, "n(1, X)", ("open",)),
+                                        (PATHS, "p(c, X)", ("book", []))):
             desk = Desk(lines)
             self.assertEqual(desk.keep("k", question), wanted)
             self.assertEqual(desk.state("k"), wanted)
@@ -228,7 +230,8 @@ class BirthTest(KeptCase):
 
     def test_operators_that_read_a_clause_otherwise(self):
         self.desk(["op 5 left to", "mode a(out)", "a(X) <- X = b to c to d"], k="a(X)")
-        self.do("change", 0, "op 5 right to", news=[("k", ("book", [(("to", "b", ("to", "c", "d")),)]))], births={"k": 1})
+        self.do("change", 0, "op 5 right to", news=[("k", ("book", [(("to", "b", ("to", "c", "d")),)]))],
+                births={"k": 1})
         self.do("put", 0, "op 2 none with", news=[], births={"k": 1})
 
     def test_open_states_are_reckoned_at_each_deed(self):
@@ -286,8 +289,10 @@ class NewsTest(KeptCase):
     def test_who_hears_all_news_knows_every_state(self):
         self.desk(PATHS, k="p(a, X)", b="p(b, X)", e="e(a, X)")
         heard = {name: self.quick.state(name) for name in self.quick.kept()}
-        for word, *places in (("put", 3, "e(c, a)"), ("put", 0, "table p 2"), ("cut", 2), ("undo",), ("change", 2, "e(a, d)"),
-                              ("undo",), ("again",), ("cut", 0), ("put", 0, "e(a, a)"), ("undo",), ("undo",), ("undo",)):
+        for word, *places in (("put", 3, "e(c, a)"), ("put", 0, "table p 2"), ("cut", 2), ("undo",),
+                              ("change", 2, "e(a, d)"),
+                              ("undo",), ("again",), ("cut", 0), ("put", 0, "e(a, a)"), ("undo",), ("undo",),
+                              ("undo",)):
             news, _ = getattr(self.quick, word)(*places)
             self.assertEqual(news, self.slow.do(word, *places))
             heard.update(news)

@@ -6,6 +6,8 @@ import pathlib
 import re
 import unittest
 
+from goalstead import errors
+
 PACKAGE = pathlib.Path(__file__).resolve().parent.parent / "goalstead"
 
 
@@ -19,6 +21,9 @@ UNUSED = (
     ast.NamedExpr, ast.Set, ast.SetComp, ast.Div, ast.MatMult, ast.Pow, ast.Delete, ast.AnnAssign,
 )
 BARRED = r"\b(type|typing|enum|Enum|Flag|Generic|Protocol|ABC|namedtuple|NamedTuple|TypedDict|abstractmethod)\b"
+BARRED_STARTS = r"_(wall|pe_|dcw_|enum_|cm_|twin_re_|lay_|law_|stub_|sre|WallAttr)"
+BARRED_NAMES = r"_(cold|tuplegetter|outside|record|written_out|member_names)[0-9_]*"
+BARRED_EVERYWHERE = "register mro elements open input law version_info with_traceback add_note".split()
 METHODS = """
     append clear copy count endswith extend find get index insert isalnum isalpha isdigit islower isspace isupper items
     join keys ljust lower lstrip partition pop remove replace reverse rfind rjust rpartition rsplit rstrip setdefault
@@ -136,6 +141,26 @@ class LanguageTest(unittest.TestCase):
                     if isinstance(node, ast.Constant) and isinstance(node.value, str):
                         self.assertNotIn("%", node.value)
 
+    def test_names_that_are_barred(self):
+        for file, tree in trees():
+            names = list(bound_names(tree)) + [node.attr for node in ast.walk(tree) if isinstance(node, ast.Attribute)]
+            names += [node.arg for node in ast.walk(tree) if isinstance(node, ast.keyword) and node.arg]
+            names += [node.id for node in ast.walk(tree) if isinstance(node, ast.Name)]
+            for name in names:
+                with self.subTest(file=file, name=name):
+                    self.assertIsNone(re.match(BARRED_STARTS, name))
+                    self.assertIsNone(re.fullmatch(BARRED_NAMES, name))
+                    self.assertNotIn(name, BARRED_EVERYWHERE)
+
+    def test_errors_that_are_caught_are_the_packages_own(self):
+        for file, tree in trees():
+            for node in ast.walk(tree):
+                if isinstance(node, ast.ExceptHandler):
+                    self.assertIn(node.type.id, dir(errors), (file, node.lineno))
+                if isinstance(node, ast.Try):
+                    for inner in [each for row in node.finalbody for each in ast.walk(row) if isinstance(each, ast.Call)]:
+                        self.assertEqual(inner.func.attr, "append", (file, inner.lineno))
+
     def test_no_name_is_a_method_and_an_attribute_of_one_class(self):
         for file, tree in trees():
             for kind in [node for node in ast.walk(tree) if isinstance(node, ast.ClassDef)]:
@@ -144,6 +169,19 @@ class LanguageTest(unittest.TestCase):
                           if isinstance(node, ast.Attribute) and isinstance(node.ctx, ast.Store)}
                 with self.subTest(file=file, kind=kind.name):
                     self.assertEqual(methods & stored, set())
+
+    def test_no_name_is_a_method_of_one_class_and_an_attribute_of_another(self):
+        methods = {name for _, tree in trees() for name in methods_of(tree)}
+        stored = {node.attr for _, tree in trees() for node in ast.walk(tree)
+                  if isinstance(node, ast.Attribute) and isinstance(node.ctx, ast.Store)}
+        self.assertEqual(methods & stored, set())
+
+    def test_attributes_have_no_names_of_builtin_values(self):
+        taken = {name for kind in (int, str, bytes, list, dict, set, tuple) for name in dir(kind)}
+        for file, tree in trees():
+            for node in ast.walk(tree):
+                if isinstance(node, ast.Attribute) and isinstance(node.ctx, ast.Store):
+                    self.assertNotIn(node.attr, taken, file)
 
     def test_no_two_files_import_from_each_other(self):
         named = {path.stem: set() for path in files()}

@@ -77,7 +77,8 @@ class HeadTest(LayCase):
 
 
 class RelationTest(LayCase):
-    TOLD = [(e("a"), [("c",), (("s", 1),), (3,), (("s", "a"),)]), (e(3), [(4,), (3,)]), (e(), [(1, 2), (2, 2), ("a", "a")]),
+    TOLD = [(e("a"), [("c",), (("s", 1),), (3,), (("s", "a"),)]), (e(3), [(4,), (3,)]),
+            (e(), [(1, 2), (2, 2), ("a", "a")]),
             (G("a"), [(1, 1), (("s", 2), 2), (("s", "a"), "a")]), (F("a"), [()]), (K(), [()])]
 
     def test_a_relation_goal(self):
@@ -131,7 +132,8 @@ class NotTest(LayCase):
 class LikenessTest(LayCase):
     def test_known_on_the_left(self):
         self.ways([1], "p(X, Y) <- f(X, s(X), 3) = Y", ((1,),))
-        self.ways([1, 0, 0], "p(X, Y) <- X = f(s(Y), 1, Y)", ((("f", ("s", 2), 1, 2),),), ((("f", ("s", 2), 1, 3),),), ((1,),))
+        self.ways([1, 0, 0], "p(X, Y) <- X = f(s(Y), 1, Y)", ((("f", ("s", 2), 1, 2),),), ((("f", ("s", 2), 1, 3),),),
+                  ((1,),))
         self.ways([1], "p(X, Y) <- f(X, g(1, X)) = f(Y, g(Z, V))", ((1,),))
         self.ways([0], "p(X, Y) <- f(X, g(1, X)) = f(Y, h(Z, V))", ((1,),))
         self.ways([0], "p(X, Y) <- 1 = f(Y)", ((1,),))
@@ -152,7 +154,8 @@ class LikenessTest(LayCase):
 
     def test_a_known_side_that_is_put_together_and_never_matched(self):
         for let_by, refused in ((flat(59), flat(60)), (tower(11), tower(12))):
-            for clause, many in (("p(X, 1) <- s(X) = 3", 0), ("p(X, 1) <- s(X) = t(Y)", 0), ("p(X, 1) <- s(X) = s(1)", 0),
+            for clause, many in (("p(X, 1) <- s(X) = 3", 0), ("p(X, 1) <- s(X) = t(Y)", 0),
+                                 ("p(X, 1) <- s(X) = s(1)", 0),
                                  ("p(X, 1) <- s(X) = s(X)", 1), ("p(X, 1) <- s(X) = Y", 1), ("p(X, 1) <- Y = s(X)", 1),
                                  ("p(X, 1) <- t(Y) = s(X)", 0), ("p(X, 1) <- s(X) = s(X, X)", 0)):
                 self.ways([many, "Open"], clause, ((let_by,),), ((refused,),))

@@ -143,6 +143,9 @@ class StepTest(StepCase):
         self.fails(MIXED, a(3), (2,), 10, ((2,),))
         for point in ((), (0,), (4,), (-1,), (2,), (1, 1), (1, 3), (HUGE,), (-HUGE,)):
             self.fails(MIXED, a(3), (1,), 10, (point,))
+        # Outside the box, and one at which a test does not hold, though the row is what would come of it.
+        for number in (0, -1, 4, 400, HUGE, -HUGE, 2):
+            self.fails(MIXED, a(3), (number,), 10, ((number,),))
         for mark in (None, 1, 0, 3, HUGE):
             self.fails(MIXED, a(3), (1,), 10, (mark,), ahead=[E12, E12])
         self.fails(MIXED, a(0), (1,), 10, ((1,),))
@@ -153,6 +156,10 @@ class StepTest(StepCase):
         self.holds(text, a(2), (1,), 1, ((2, 1),))
         for point in ((1, 1), (2, 0), (3, 1), (2,), (2, 1, 1), (1, 2), (4, 1)):
             self.fails(text, a(2), (1,), 1, (point,))
+        self.fails(text, a(4), (3,), 1, ((4, 3),))
+        self.fails(text, a(2), (3,), 1, ((2, 3),))
+        self.fails(text, a(0), (0,), 1, ((0, 0),))
+        self.fails(text, a(1), (-1,), 1, ((1, -1),))
         # A range's unknown that is known already has to be what the point has.
         self.fails(text, a("b"), (1,), 1, ((2, 1),))
         self.fails("mode a(in, out) \n a(X, Y) <- Y in 1 .. 3 such Y < X", a("b"), (1,), 1, ((1,),))
@@ -250,7 +257,8 @@ class OpenStepTest(StepCase):
 
         def barred(term):
             return term, (1,), (None,), {"told": [(one("f", ("s", term)), [])]}
-        self.both("a(X, 1) <- not f(s(X))", [barred(flat(59)), barred(tower(11))], [barred(flat(60)), barred(tower(12))])
+        self.both("a(X, 1) <- not f(s(X))", [barred(flat(59)), barred(tower(11))],
+                  [barred(flat(60)), barred(tower(12))])
 
     def test_the_known_side_of_a_likeness(self):
         let_by, refused = [[(term, (1,), (None,), {}) for term in terms]
@@ -328,7 +336,8 @@ class WarrantTest(PaperCase):
         self.book, self.steps = warrant_of(program_of(FLOORS), a(1))
 
     def both(self, wanted, book=None, steps=None):
-        self.warrant(wanted, FLOORS, a(1), (self.book if book is None else book, self.steps if steps is None else steps))
+        self.warrant(wanted, FLOORS, a(1),
+                     (self.book if book is None else book, self.steps if steps is None else steps))
 
     def changed(self, call, rows):
         """The book with other rows for a call."""
@@ -425,7 +434,8 @@ class WarrantTest(PaperCase):
 
     def test_steps_that_do_not_hold_or_are_not_of_the_book(self):
         for step in ((a(1), (9,), 6, (0, None)), (a(1), (1,), 6, (0, None)), (a(2), (2,), 7, ()), (e(9), (2,), 11, ()),
-                     (a(1), (1,), 8, ()), (a(1), (1,), HUGE, ()), (("zz/0", "", ()), (), 7, ()), (a(1), (1,), 7, (None,))):
+                     (a(1), (1,), 8, ()), (a(1), (1,), HUGE, ()), (("zz/0", "", ()), (), 7, ()),
+                     (a(1), (1,), 7, (None,))):
             self.both(False, steps=[*self.steps, step])
         self.both(True, steps=[*self.steps, (a(1), (1,), 7, ())])
         # A step of a call that the book does not have would hold by itself.
@@ -453,7 +463,8 @@ class WarrantTest(PaperCase):
         text = "mode a(in) \n mode z \n a(X) <- Y in 1 .. X, 1 < 0 \n a(0)"
         for ins, wanted in ((199, True), (200, True), (201, False), (400, False), (401, False)):
             self.warrant(wanted, text, one("a", ins), ([(one("a", ins), [])], []))
-        for text, wanted in (("mode a \n a <- X in 1 .. 100, 1 < 2", True), ("mode a \n a <- X in 1 .. 101, 1 < 2", False)):
+        for text, wanted in (("mode a \n a <- X in 1 .. 100, 1 < 2", True),
+                             ("mode a \n a <- X in 1 .. 101, 1 < 2", False)):
             self.warrant(wanted, text, one("a"), ([(one("a"), [()])], []))
 
     def test_walks_that_open_refuses(self):

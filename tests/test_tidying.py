@@ -126,6 +126,26 @@ class ConditionTest(TidyCase):
                                 ("same", 3, 4), ("same", 1, 2), ("tell", (3, 4))], 1, 3)
         self.assertEqual(found[-1][1][0], found[-1][1][1])
 
+    def test_what_is_left_out_is_read_where_it_stands_already(self):
+        at = ("at", 2)
+        for code, wanted in ((("this", 2, 6), ("this", 1, 6)), (("same", 2, 0), ("same", 1, 0)),
+                             (("same", 0, 2), ("same", 0, 1)),
+                             (("open", 2, "s", 5, 2), ("open", 1, "s", 5, 2)),
+                             (("make", 5, "s", (0, 2)), ("make", 5, "s", (0, 1))),
+                             (("sum", 5, ("+", at, ("*", 2, at))), ("sum", 5, ("+", ("at", 1), ("*", 2, ("at", 1))))),
+                             (("test", "<", at, 2), ("test", "<", ("at", 1), 2)),
+                             (("test", "<", 2, at), ("test", "<", 2, ("at", 1))),
+                             (("call", "e/2", "++", (2, 0), 5), ("call", "e/2", "++", (1, 0), 5)),
+                             (("bar", "e/2", "+-", (2,), 5, 0), ("bar", "e/2", "+-", (1,), 5, 0)),
+                             (("field", ((at, 2), (0, at)), (("<", ("at", 5), at), ("<", at, 9)), 5),
+                              ("field", ((("at", 1), 2), (0, ("at", 1))),
+                               (("<", ("at", 5), ("at", 1)), ("<", ("at", 1), 9)), 5))):
+            found = self.tidy([1], [("put", 1, 5), ("put", 2, 5), code, ("tell", (2, 1, 0))], 1, 3)
+            self.assertEqual(found, [("put", 1, 5), wanted, ("tell", (1, 1, 0))])
+            for ins in (5, 3, ("s", 1, 2)):
+                for told in ([], [(e(5), [(1,)])], [(("e/2", "++", (5, ins)), [()])]):
+                    self.alike([("put", 1, 5), ("put", 2, 5), code, ("tell", (2, 1, 0))], (ins,), told)
+
     def test_codes_that_do_not_fit_are_not_tidy(self):
         for codes in ([], [("mark",)], [ONE], [("put", 0, 1), NONE, NONE], [("bar", "k/0", "", (), 5, 1), NONE],
                       [("call", "f/1", "+", (), 5), NONE]):
@@ -197,8 +217,10 @@ class StayTest(TidyCase):
         self.assertEqual(self.alike(codes, (5,)), ([], [], []))
 
     def test_calls_met_and_marks(self):
-        codes = [("put", 1, 5), ("put", 2, 5), ("call", "e/2", "+-", (1,), 3), ("mark",), ("call", "e/2", "+-", (2,), 4),
-                 ("same", 3, 4), ("same", 4, 3), ("mark",), ("make", 6, "s", (3,)), ("make", 7, "s", (3,)), ("tell", (6, 7))]
+        codes = [("put", 1, 5), ("put", 2, 5), ("call", "e/2", "+-", (1,), 3), ("mark",),
+                 ("call", "e/2", "+-", (2,), 4),
+                 ("same", 3, 4), ("same", 4, 3), ("mark",), ("make", 6, "s", (3,)), ("make", 7, "s", (3,)),
+                 ("tell", (6, 7))]
         told = [(e(5), [(1,), (2,)])]
         wanted = ([(("s", 1), ("s", 1)), (("s", 2), ("s", 2))], [2, 2], [e(5)])
         self.assertEqual(self.alike(codes, (), told), wanted)

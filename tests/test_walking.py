@@ -1,6 +1,5 @@
 """[38] to [41], and [43] for a clause's walk: clauses walked goal by goal."""
 
-import random
 import unittest
 
 from goalstead.errors import NoCall, Open

@@ -1,6 +1,5 @@
 """[1] to [4]: the three things that are told are the same in every way, over drawn programs, edits and papers."""
 
-import random
 import time
 import unittest
 
@@ -83,7 +82,8 @@ class DrawnTest(SameCase):
         """A desk that comes to these lines by edits, some of them undone or refused."""
         desk, there = Desk([]), []
         order = sorted(range(len(lines)), key=lambda at: (lines[at].partition(" ")[0] not in ("mode", "op"),
-                                                           lines[at].partition(" ")[0] != "table", maker.random.random()))
+                                                           lines[at].partition(" ")[0] != "table",
+                                                          maker.random.random()))
         for at in order:
             place = len([other for other in there if other < at])
             if maker.random.random() < 0.3:
@@ -96,7 +96,8 @@ class DrawnTest(SameCase):
     def detour(self, maker, desk, lines):
         """Deeds behind which the text is as it was."""
         before = desk.lines()
-        for word, *places in (("put", 0, maker.random.choice(lines)), ("cut", 0), ("change", 0, maker.random.choice(lines))):
+        for word, *places in (("put", 0, maker.random.choice(lines)), ("cut", 0),
+                              ("change", 0, maker.random.choice(lines))):
             try:
                 getattr(desk, word)(*places)
                 desk.undo()
@@ -191,7 +192,8 @@ class EditedTest(KeptCase, SameCase):
             for title in Program(read_text(self.quick.lines())[1]).titles():
                 for mode in image.modes(title):
                     self.assertEqual(self.quick.codes_of(title, mode), image.codes_of(title, mode))
-        for word in ("put", "cut", "change", "undo", "again", "NoStep", "NoPlace", "BadPiece", "BadShape", "Modeless", "Ill"):
+        for word in ("put", "cut", "change", "undo", "again", "NoStep", "NoPlace", "BadPiece", "BadShape", "Modeless",
+                     "Ill"):
             self.assertIn(word, words)
 
     def keep_one(self, maker, name):
@@ -236,7 +238,8 @@ class LongTest(KeptCase):
 
     def test_lots_near_two_hundred_things_at_each_deed(self):
         began = time.monotonic()
-        lines = ["mode a(out)", "table a 1", "a(0)", "a(Y) <- a(X), Y is X + 1, Y < 48", "mode n(in)", "n(X) <- Y is X + 1, n(Y)"]
+        lines = ["mode a(out)", "table a 1", "a(0)", "a(Y) <- a(X), Y is X + 1, Y < 48", "mode n(in)",
+                 "n(X) <- Y is X + 1, n(Y)"]
         desk = Desk(lines)
         desk.keep("all", "a(X)")
         desk.keep("last", "a(47)")
